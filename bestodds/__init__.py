@@ -1,0 +1,1 @@
+"""Bestodds: least and greatest chances and costs, exactly and with certificates."""
