@@ -40,6 +40,17 @@ def is_less(a, b):
     return a[0] * b[1] < b[0] * a[1]
 
 
+def is_better(a, b, most):
+    """True if a is greater than b (most is True) or less than b (most is False)."""
+    return is_less(b, a) if most else is_less(a, b)
+
+
+def is_fraction(pair):
+    """True if a pair of integers is in lowest terms, with d at least 1."""
+    n, d = pair
+    return d >= 1 and gcd(n, d) == 1
+
+
 def format_ratio(a):
     """The text of a fraction: n/d, or n if d is 1."""
     n, d = a

@@ -1,6 +1,6 @@
-"""Systems: their faults and their moves (points 3 to 5)."""
+"""Systems: their faults, moves, means and policies (points 3 to 5)."""
 
-from bestodds.ratios import ratio
+from bestodds.ratios import plus, ratio, times
 
 MOST_STATES = 20
 MOST_CHOICES = 6
@@ -51,3 +51,18 @@ def moves(system, state, choice):
     _, ends = system[state][choice]
     total = sum([weight for end, weight in ends])
     return [(end, ratio(weight, total)) for end, weight in ends]
+
+
+def mean(system, state, choice, numbers):
+    """The mean of the numbers of the states, which are fractions, over a choice."""
+    total = (0, 1)
+    for end, chance in moves(system, state, choice):
+        total = plus(total, times(chance, numbers[end]))
+    return total
+
+
+def is_policy(system, policy):
+    """True if the policy has the number of a choice for each state and no more."""
+    if len(policy) != len(system):
+        return False
+    return all([0 <= number < len(choices) for number, choices in zip(policy, system)])

@@ -3,6 +3,7 @@
 Nothing here uses the package.
 """
 
+from fractions import Fraction
 from itertools import product
 
 
@@ -93,3 +94,129 @@ def maximal_parts(system):
     largest = [part for part in parts
                if not any(set(part) < set(other) for other in parts)]
     return sorted(sorted(part.items()) for part in largest)
+
+
+def pair(value):
+    """A Fraction, or None, as the package writes it."""
+    return None if value is None else (value.numerator, value.denominator)
+
+
+def chances_of(system, state, choice):
+    """The dict of the ends of a choice and their chances."""
+    ends = dict(system[state][choice][1])
+    return {end: Fraction(weight, sum(ends.values())) for end, weight in ends.items()}
+
+
+def mean_over(system, state, choice, values):
+    return sum(chance * values[end] for end, chance in chances_of(system, state, choice).items())
+
+
+def gauss(rows, right):
+    """The one solution of linear equations of Fractions with just one."""
+    table = [[*row, value] for row, value in zip(rows, right)]
+    for at in range(len(table)):
+        place = next(k for k in range(at, len(table)) if table[k][at] != 0)
+        table[at], table[place] = table[place], table[at]
+        table[at] = [x / table[at][at] for x in table[at]]
+        for k in range(len(table)):
+            if k != at:
+                table[k] = [x - table[k][at] * y for x, y in zip(table[k], table[at])]
+    return [row[-1] for row in table]
+
+
+def fixed(system, policy, known, paid):
+    """The values of all states: the known ones, elsewhere what is paid plus the mean of the ends."""
+    rows, right = [], []
+    for state in range(len(system)):
+        row = [Fraction(other == state) for other in range(len(system))]
+        if state not in known:
+            for end, chance in chances_of(system, state, policy[state]).items():
+                row[end] -= chance
+        rows.append(row)
+        right.append(Fraction(known.get(state, paid[state])))
+    return gauss(rows, right)
+
+
+def chain_chances(system, policy, allowed, targets):
+    """The chances of a wish with a policy."""
+    some = hopes(followers(system, policy, allowed, targets), targets)
+    known = {state: int(state in targets) for state in range(len(system))
+             if state in targets or state not in some}
+    return fixed(system, policy, known, [0] * len(system))
+
+
+def chain_costs(system, policy, targets):
+    """The costs until the targets with a policy, or None."""
+    states = range(len(system))
+    chances = chain_chances(system, policy, states, targets)
+    known = {state: 0 for state in states if state in targets or chances[state] != 1}
+    paid = [system[state][policy[state]][0] for state in states]
+    costs = fixed(system, policy, known, paid)
+    return [cost if chance == 1 else None for cost, chance in zip(costs, chances)]
+
+
+def chain_averages(system, policy):
+    """The costs in the long run with a policy: shares of time in the closed classes."""
+    states = range(len(system))
+    follow = followers(system, policy, states, [])
+    known = {}
+    for state in states:
+        members = sorted(reached(follow, state))
+        if all(reached(follow, member) == set(members) for member in members):
+            shares = shares_of_time(system, policy, members)
+            known[state] = sum(share * system[member][policy[member]][0]
+                               for share, member in zip(shares, members))
+    return fixed(system, policy, known, [0] * len(system))
+
+
+def shares_of_time(system, policy, members):
+    """How often each member of a closed class is visited in the long run."""
+    rows = [[chances_of(system, other, policy[other]).get(member, 0) - Fraction(other == member)
+             for other in members] for member in members]
+    # One of the equations follows from the others, the sum of the shares stands in its place.
+    return gauss([[Fraction(1)] * len(members)] + rows[1:],
+                 [Fraction(1)] + [Fraction(0)] * (len(members) - 1))
+
+
+def best_over_policies(system, allowed, targets, most):
+    """The best chance from each state, each over all policies."""
+    found = [chain_chances(system, policy, allowed, targets) for policy in all_policies(system)]
+    return [max(values) if most else min(values) for values in zip(*found)]
+
+
+def keeps_to_form(system, allowed, targets, certificate):
+    """Condition 1 of point 17, and what a certificate of chances is."""
+    values, policy, ranks = certificate
+    if {len(values), len(policy), len(ranks)} != {len(system)} or min(ranks, default=0) < 0:
+        return False
+    if any(number not in range(len(choices)) for number, choices in zip(policy, system)):
+        return False
+    for state, value in enumerate(values):
+        if state in targets and value != (1, 1):
+            return False
+        if state not in targets and state not in allowed and value != (0, 1):
+            return False
+    return all(0 <= Fraction(*value) <= 1 for value in values)
+
+
+def accepts_chances(system, allowed, targets, most, certificate):
+    """Whether a certificate of chances is accepted, by the words of points 17 and 18."""
+    if not keeps_to_form(system, allowed, targets, certificate):
+        return False
+    values, policy, ranks = certificate
+    values = [Fraction(*value) for value in values]
+    for state in set(allowed) - set(targets):
+        means = [mean_over(system, state, number, values) for number in range(len(system[state]))]
+        ends = [[end for end, _ in choice[1]] for choice in system[state]]
+        lower = [[end for end in line if ranks[end] < ranks[state]] for line in ends]
+        if most:
+            holds = max(means) <= values[state] and (values[state] == 0 or (
+                means[policy[state]] == values[state]
+                and any(values[end] > 0 for end in lower[policy[state]])))
+        else:
+            holds = min(means) >= values[state] == means[policy[state]] and (values[state] == 0 or all(
+                any(end in targets or values[end] == 0 or end in down for end in line)
+                for line, down in zip(ends, lower)))
+        if not holds:
+            return False
+    return True

@@ -7,7 +7,8 @@ from math import gcd
 
 from bestodds import ratios
 from bestodds.errors import BestoddsError, InvalidRatio
-from bestodds.ratios import format_ratio, is_less, minus, over, parse_ratio, plus, ratio, times
+from bestodds.ratios import (format_ratio, is_better, is_fraction, is_less, minus, over, parse_ratio, plus,
+                             ratio, times)
 
 BIG = 10 ** 9
 HUGE = 10 ** 40 + 7
@@ -128,6 +129,23 @@ class IsLessTest(RatioCase):
         for a, b in product(SAMPLES, SAMPLES):
             with self.subTest(a=a, b=b):
                 self.assertIs(is_less(a, b), Fraction(*a) < Fraction(*b))
+
+
+class HelpersTest(RatioCase):
+    """What the rest of the program asks of fractions beyond the interface."""
+
+    def test_is_better(self):
+        for a, b in product(SAMPLES, repeat=2):
+            self.assertIs(is_better(a, b, True), Fraction(*a) > Fraction(*b))
+            self.assertIs(is_better(a, b, False), Fraction(*a) < Fraction(*b))
+
+    def test_is_fraction(self):
+        for n, d in product(range(-6, 7), repeat=2):
+            self.assertIs(is_fraction((n, d)), d > 0 and gcd(n, d) == 1)
+        for a in SAMPLES:
+            self.assertIs(is_fraction(a), True)
+            self.assertIs(is_fraction((a[0] * 3, a[1] * 3)), False)
+            self.assertIs(is_fraction((-a[0], -a[1])), False)
 
 
 class FormatTest(RatioCase):

@@ -6,7 +6,7 @@ from fractions import Fraction
 from math import gcd
 
 from bestodds import systems
-from bestodds.systems import fault, moves
+from bestodds.systems import fault, is_policy, mean, moves
 
 EXAMPLE = (((0, ((0, 1), (1, 2))),), ((5, ((1, 1),)),))
 STAY = (0, ((0, 1),))
@@ -193,6 +193,41 @@ class MovesTest(unittest.TestCase):
         moves(system, 0, 0).clear()
         self.assertEqual(moves(system, 0, 0), [(0, (1, 3)), (1, (2, 3))])
         self.assertEqual(system, EXAMPLE)
+
+
+class MeanTest(unittest.TestCase):
+
+    def test_the_mean_over_a_choice(self):
+        system = ((STAY, (7, ((0, 1), (1, 2)))), ((3, ((0, 1), (1, 3))), (0, ((1, 1),))))
+        numbers = [(1, 2), (-1, 3)]
+        self.assertEqual(mean(system, 0, 0, numbers), (1, 2))
+        self.assertEqual(mean(system, 0, 1, numbers), (-1, 18))
+        self.assertEqual(mean(system, 1, 0, numbers), (-1, 8))
+        self.assertEqual(mean(system, 1, 1, tuple(numbers)), (-1, 3))
+        self.assertEqual(mean(system, 0, 1, [(4, 1), (-2, 1)]), (0, 1))
+
+    def test_six_ends(self):
+        ends = tuple((state, state) for state in range(2, 8))
+        numbers = [(state, 1) for state in range(8)]
+        self.assertEqual(mean(alone(0, ends), 0, 0, numbers), (139, 27))
+
+
+class PolicyTest(unittest.TestCase):
+    """A policy has the number of a choice for each state (point 4)."""
+
+    system = ((STAY,), (STAY, STAY, STAY))
+
+    def test_policies(self):
+        for policy in ((0, 0), (0, 1), (0, 2), [0, 2]):
+            self.assertIs(is_policy(self.system, policy), True)
+
+    def test_choices_that_are_not_there(self):
+        for policy in ((1, 0), (-1, 0), (0, 3), (0, -1), (0, -3), (0, 1000)):
+            self.assertIs(is_policy(self.system, policy), False)
+
+    def test_another_number_of_states(self):
+        for policy in ((), (0,), (0, 0, 0), (0,) * 40):
+            self.assertIs(is_policy(self.system, policy), False)
 
 
 if __name__ == "__main__":
