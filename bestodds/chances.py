@@ -2,7 +2,7 @@
 
 from bestodds.chains import policy_chances
 from bestodds.ratios import is_better
-from bestodds.sure import choices_on_way, leads_into, levels
+from bestodds.sure import choices_on_way, distances, leads_into, levels
 from bestodds.systems import mean
 
 
@@ -16,7 +16,7 @@ def best_chances(system, allowed, targets, most):
         values = policy_chances(system, policy, allowed, targets)
         better = improved(system, usable, policy, values, most)
     if most:
-        ranks = ranks_of_greatest(system, usable, targets, policy)
+        ranks = distances(system, usable, targets, policy)
     else:
         ranks = ranks_of_least(system, usable, targets, values)
     return (tuple(values), tuple(policy), tuple(ranks))
@@ -48,13 +48,6 @@ def improved(system, usable, policy, values, most):
                 best = here
                 found[state] = number
     return found
-
-
-def ranks_of_greatest(system, usable, targets, policy):
-    """For each state how far the policy is from a target at least, 0 where it comes to none."""
-    followed = [[policy[state]] if numbers else [] for state, numbers in enumerate(usable)]
-    found = levels(system, followed, targets, False)
-    return [0 if level is None else level for level in found]
 
 
 def ranks_of_least(system, usable, targets, values):

@@ -64,6 +64,16 @@ def levels(system, usable, goals, every):
     return found
 
 
+def distances(system, usable, targets, policy):
+    """For each state how far the policy is from a target at least, 0 where it comes to none.
+
+    The policy is followed where a state has usable choices.
+    """
+    followed = [[policy[state]] if numbers else [] for state, numbers in enumerate(usable)]
+    found = levels(system, followed, targets, False)
+    return [0 if level is None else level for level in found]
+
+
 def joins(choices, numbers, found, every):
     """True if one of the choices with these numbers, or every one, leads to what is found."""
     hits = [leads_into(choices[number], found) for number in numbers]

@@ -1,6 +1,8 @@
 """Systems: their faults, moves, means and policies (points 3 to 5)."""
 
-from bestodds.ratios import plus, ratio, times
+from math import lcm
+
+from bestodds.ratios import plus, ratio
 
 MOST_STATES = 20
 MOST_CHOICES = 6
@@ -55,10 +57,22 @@ def moves(system, state, choice):
 
 def mean(system, state, choice, numbers):
     """The mean of the numbers of the states, which are fractions, over a choice."""
-    total = (0, 1)
-    for end, chance in moves(system, state, choice):
-        total = plus(total, times(chance, numbers[end]))
-    return total
+    _, ends = system[state][choice]
+    # Over a common denominator, so that long numbers are brought to lowest terms only once.
+    common = 1
+    for end, _ in ends:
+        common = lcm(common, numbers[end][1])
+    total = 0
+    for end, weight in ends:
+        n, d = numbers[end]
+        total += weight * n * (common // d)
+    return ratio(total, common * sum([weight for _, weight in ends]))
+
+
+def cost_and_mean(system, state, choice, numbers):
+    """The cost of a choice plus the mean of the numbers of the states over it."""
+    cost, _ = system[state][choice]
+    return plus((cost, 1), mean(system, state, choice, numbers))
 
 
 def is_policy(system, policy):

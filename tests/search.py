@@ -220,3 +220,89 @@ def accepts_chances(system, allowed, targets, most, certificate):
         if not holds:
             return False
     return True
+
+
+def best_costs_over_policies(system, targets):
+    """For True and False the best cost from each state, each over all policies, None if infinite."""
+    found = {True: [], False: []}
+    for costs in zip(*[chain_costs(system, policy, targets) for policy in all_policies(system)]):
+        finite = [cost for cost in costs if cost is not None]
+        found[True].append(None if None in costs else max(finite))
+        found[False].append(min(finite, default=None))
+    return found
+
+
+def best_averages_over_policies(system):
+    """For True and False the best cost in the long run from each state, each over all policies."""
+    found = list(zip(*[chain_averages(system, policy) for policy in all_policies(system)]))
+    return {True: [max(values) for values in found], False: [min(values) for values in found]}
+
+
+def is_a_policy(system, policy):
+    return len(policy) == len(system) and all(
+        number in range(len(choices)) for number, choices in zip(policy, system))
+
+
+def accepts_costs(system, targets, most, finite, certificate):
+    """Whether a certificate of costs is accepted, by the words of point 22.
+
+    The finite states are the attainable ones for the least costs, the certain ones for the greatest.
+    """
+    costs, policy, ranks = certificate
+    if not len(costs) == len(ranks) == len(system) or not is_a_policy(system, policy) or min(ranks) < 0:
+        return False
+    if {state for state, cost in enumerate(costs) if cost is not None} != set(finite):
+        return False
+    if any(costs[state] != (0, 1) for state in targets):
+        return False
+    costs = [None if cost is None else Fraction(*cost) for cost in costs]
+    for state in set(finite) - set(targets):
+        paid = {number: cost + mean_over(system, state, number, costs)
+                for number, (cost, ends) in enumerate(system[state])
+                if all(costs[end] is not None for end, _ in ends)}
+        if paid.get(policy[state]) != costs[state]:
+            return False
+        if not any(end in targets or ranks[end] < ranks[state] for end, _ in system[state][policy[state]][1]):
+            return False
+        if any(here > costs[state] if most else here < costs[state] for here in paid.values()):
+            return False
+    return True
+
+
+def accepts_averages(system, most, certificate):
+    """Whether a certificate of costs in the long run is accepted, by the words of point 26."""
+    gains, potentials, policy = certificate
+    if not len(gains) == len(potentials) == len(system) or not is_a_policy(system, policy):
+        return False
+    # For the least costs all signs are turned round.
+    sign = 1 if most else -1
+    gains = [sign * Fraction(*gain) for gain in gains]
+    potentials = [sign * Fraction(*potential) for potential in potentials]
+    for state, choices in enumerate(system):
+        means = [mean_over(system, state, number, gains) for number in range(len(choices))]
+        sums = [sign * choices[number][0] + mean_over(system, state, number, potentials)
+                for number in range(len(choices))]
+        if max(means) > gains[state] or means[policy[state]] != gains[state]:
+            return False
+        most_sum = max(total for total, here in zip(sums, means) if here == gains[state])
+        if not most_sum <= gains[state] + potentials[state] == sums[policy[state]]:
+            return False
+    return True
+
+
+def backwards(system, allowed, targets, steps, most):
+    """The chances and the policies of point 24, by its words."""
+    states = range(len(system))
+    values = [Fraction(state in targets) for state in states]
+    policies = []
+    for _ in range(steps):
+        fresh, policy = [], []
+        for state in states:
+            means = [mean_over(system, state, number, values) for number in range(len(system[state]))]
+            best = max(means) if most else min(means)
+            ended = state in targets or state not in allowed
+            fresh.append(Fraction(state in targets) if ended else best)
+            policy.append(0 if ended else means.index(best))
+        values = fresh
+        policies.append(tuple(policy))
+    return values, policies

@@ -176,5 +176,24 @@ class LanguageTest(unittest.TestCase):
                     self.assertIn(node.func.attr, METHODS | own)
 
 
+    def test_l18_and_l26_methods_and_attributes(self):
+        for path, node in nodes(ast.ClassDef):
+            methods = [part.name for part in node.body if isinstance(part, ast.FunctionDef)]
+            attributes = {part.attr for part in ast.walk(node)
+                          if isinstance(part, ast.Attribute) and isinstance(part.ctx, ast.Store)}
+            with self.subTest(place(path, node)):
+                self.assertEqual(sorted(methods), sorted(set(methods)))
+                self.assertEqual(set(methods) & attributes, set())
+                self.assertEqual(attributes & METHODS, set())
+
+    def test_l18_attributes_that_are_read_are_assigned(self):
+        assigned = {node.attr for _, node in nodes(ast.Attribute) if isinstance(node.ctx, ast.Store)}
+        called = {id(node.func) for _, node in nodes(ast.Call)}
+        for path, node in nodes(ast.Attribute):
+            if isinstance(node.ctx, ast.Load) and id(node) not in called:
+                with self.subTest(place(path, node)):
+                    self.assertIn(node.attr, assigned)
+
+
 if __name__ == "__main__":
     unittest.main()

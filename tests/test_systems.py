@@ -4,9 +4,10 @@ import unittest
 from copy import deepcopy
 from fractions import Fraction
 from math import gcd
+from random import Random
 
 from bestodds import systems
-from bestodds.systems import fault, is_policy, mean, moves
+from bestodds.systems import cost_and_mean, fault, is_policy, mean, moves
 
 EXAMPLE = (((0, ((0, 1), (1, 2))),), ((5, ((1, 1),)),))
 STAY = (0, ((0, 1),))
@@ -210,6 +211,18 @@ class MeanTest(unittest.TestCase):
         ends = tuple((state, state) for state in range(2, 8))
         numbers = [(state, 1) for state in range(8)]
         self.assertEqual(mean(alone(0, ends), 0, 0, numbers), (139, 27))
+
+    def test_numbers_with_other_denominators(self):
+        random = Random(7)
+        for _ in range(300):
+            ends = tuple((end, random.randint(1, 9)) for end in sorted(random.sample(range(8), random.randint(1, 6))))
+            values = [Fraction(random.randint(-20, 20), random.randint(1, 12)) for _ in range(8)]
+            numbers = [(value.numerator, value.denominator) for value in values]
+            expected = sum(weight * values[end] for end, weight in ends) / sum(weight for _, weight in ends)
+            system = ((STAY, (random.randint(0, 50), ends)),)
+            self.assertEqual(mean(system, 0, 1, numbers), (expected.numerator, expected.denominator))
+            expected += system[0][1][0]
+            self.assertEqual(cost_and_mean(system, 0, 1, numbers), (expected.numerator, expected.denominator))
 
 
 class PolicyTest(unittest.TestCase):
